@@ -1,0 +1,1 @@
+"""The water of a regatta: its marks, lines, lands and courses, told by a text."""
