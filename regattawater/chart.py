@@ -1,5 +1,7 @@
 """What a text tells of the water: marks, lines, lands and courses, each sort numbered from 0."""
 
+from regattawater.places import on_land, way_meets_land
+
 NONE = -1
 
 
@@ -52,6 +54,25 @@ def number_of_name(things, name):
         if thing.name == name:
             return k
     return NONE
+
+
+def first_land_at(chart, place):
+    for k, land in enumerate(chart.lands):
+        if on_land(place, land.corners):
+            return k
+    return NONE
+
+
+def first_land_met(chart, a, b):
+    for k, land in enumerate(chart.lands):
+        if way_meets_land(a, b, land.corners):
+            return k
+    return NONE
+
+
+def free_for_mark(chart, place):
+    taken = any([mark.place == place for mark in chart.marks])
+    return not taken and first_land_at(chart, place) == NONE
 
 
 def unfolded_length(course):

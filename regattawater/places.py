@@ -1,5 +1,17 @@
 """Places and ways, and the lands that ways lead round. A place is a tuple of x (east) and y (north)."""
 
+# No place lies farther east, west, north or south than this.
+FARTHEST = 1000000
+
+
+# The numbers are x and y of one place behind another.
+def pair_up(numbers):
+    return [(numbers[k], numbers[k + 1]) for k in range(0, len(numbers), 2)]
+
+
+def ways_along(places):
+    return [(places[k], places[k + 1]) for k in range(len(places) - 1)]
+
 
 # Above 0 if the place lies left of the way from a to b, below 0 if right of it, 0 if in line with it.
 def turn(a, b, place):
@@ -80,3 +92,11 @@ def sides_go_round(place, corners):
 
 def on_land(place, corners):
     return on_border(place, corners) or sides_go_round(place, corners)
+
+
+def way_meets_land(a, b, corners):
+    for c, d in sides_of(corners):
+        if ways_meet(a, b, c, d):
+            return True
+    # It meets no side, so all of it lies within the land or none: its beginning tells which.
+    return sides_go_round(a, corners)

@@ -1,6 +1,7 @@
 """Reads a text: gives the chart that it tells, or the number of its first wrong line."""
 
-from regattawater.chart import NONE, Chart, Course, Land, Line, Mark, Stretch, number_of_name, unfolded_length
+from regattawater.chart import NONE, Chart, Course, Land, Line, Mark, Stretch
+from regattawater.chart import free_for_mark, number_of_name, unfolded_length
 from regattawater.places import is_simple, on_land
 from regattawater.refusals import WrongLine, WrongText
 from regattawater.words import lines_of, read_name, read_number, read_places, words_of
@@ -47,8 +48,7 @@ def read_mark(reading, words):
     ask_for(len(words) == 4 and len(chart.marks) < MOST_MARKS)
     name = read_new_name(chart, words[1])
     place = read_places(words[2:])[0]
-    ask_for(not any([mark.place == place for mark in chart.marks]))
-    ask_for(not any([on_land(place, land.corners) for land in chart.lands]))
+    ask_for(free_for_mark(chart, place))
     chart.marks.append(Mark(name, place))
 
 

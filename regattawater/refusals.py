@@ -5,7 +5,16 @@ class NotByte(Exception):
     pass
 
 
+# Numbers that tell no place, or no row of places.
+class NotPlace(Exception):
+    pass
+
+
 class NoSuch(Exception):
+    pass
+
+
+class TakenPlace(Exception):
     pass
 
 

@@ -1,5 +1,6 @@
 """Lines, words, names and numbers of a text."""
 
+from regattawater.places import FARTHEST, pair_up
 from regattawater.refusals import WrongLine
 
 LINE_END = 10
@@ -12,7 +13,6 @@ SIGNS = " !\"#$?&'()*+,-./0123456789:;<=>?@ABCDEFGHIJKLMNOPQRSTUVWXYZ[\\]^_`abcd
 
 LONGEST_NAME = 12
 MOST_DIGITS = 7
-LARGEST_NUMBER = 1000000
 
 
 def lines_of(text):
@@ -56,7 +56,7 @@ def read_number(word):
         raise WrongLine()
     number = int(word)
     # A number has one way to be written: this tells zeros in front and -0.
-    if str(number) != word or abs(number) > LARGEST_NUMBER:
+    if str(number) != word or abs(number) > FARTHEST:
         raise WrongLine()
     return number
 
@@ -64,5 +64,4 @@ def read_number(word):
 def read_places(words):
     if len(words) % 2 != 0:
         raise WrongLine()
-    numbers = [read_number(word) for word in words]
-    return [(numbers[k], numbers[k + 1]) for k in range(0, len(numbers), 2)]
+    return pair_up([read_number(word) for word in words])

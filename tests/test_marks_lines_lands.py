@@ -3,15 +3,11 @@
 import itertools
 import random
 import unittest
-from fractions import Fraction
 
-from helper import HUGE, Texts, land, line, load, loaded, mark, name, run, written
+from helper import HUGE, Texts, has_on_it, has_place, land, land_text, line, load, loaded, mark, name, run, share_a_place
+from helper import written
 
 FIRST_LAND = "land L 0 0 10 0 10 10 0 10"
-
-
-def land_text(corners, called="L"):
-    return " ".join(["land", called] + [f"{x} {y}" for x, y in corners])
 
 
 def comb(count):
@@ -222,30 +218,6 @@ class MarksAndLands(Texts, unittest.TestCase):
         self.assert_right(lands + "mark A 5 5\nmark B 15 15\n", [2, 0, 3, 0])
 
 
-def share_a_place(a, b, c, d):
-    """Whether two ways share a place, by fractions: another road than the program's."""
-    ux, uy, vx, vy = b[0] - a[0], b[1] - a[1], d[0] - c[0], d[1] - c[1]
-    wx, wy = c[0] - a[0], c[1] - a[1]
-    cross = ux * vy - uy * vx
-    if cross != 0:
-        along = Fraction(wx * vy - wy * vx, cross)
-        other = Fraction(wx * uy - wy * ux, cross)
-        return 0 <= along <= 1 and 0 <= other <= 1
-    if (ux, uy) == (0, 0) == (vx, vy):
-        return a == c
-    if (ux, uy) == (0, 0):
-        return share_a_place(c, d, a, b)
-    if wx * uy - wy * ux != 0:
-        return False
-    length = ux * ux + uy * uy
-    ends = sorted(Fraction((p[0] - a[0]) * ux + (p[1] - a[1]) * uy, length) for p in (c, d))
-    return ends[0] <= 1 and ends[1] >= 0
-
-
-def has_place(a, b, place):
-    return share_a_place(a, b, place, place)
-
-
 def is_simple(corners):
     count = len(corners)
     sides = [(corners[k], corners[(k + 1) % count]) for k in range(count)]
@@ -256,28 +228,6 @@ def is_simple(corners):
         elif (j + 1) % count != i and share_a_place(*sides[i], *sides[j]):
             return False
     return True
-
-
-def has_on_it(corners, place):
-    """By how often the sides wind round the place, counted in quarters."""
-    count = len(corners)
-    sides = [(corners[k], corners[(k + 1) % count]) for k in range(count)]
-    if any(has_place(a, b, place) for a, b in sides):
-        return True
-    wound = 0
-    for (ax, ay), (bx, by) in sides:
-        wound += half_turns((ax - place[0], ay - place[1]), (bx - place[0], by - place[1]))
-    return wound != 0
-
-
-def half_turns(a, b):
-    """How the way from a to b goes through the row of places with y = 0 and x below 0."""
-    if (a[1] >= 0) == (b[1] >= 0):
-        return 0
-    x = a[0] - Fraction(a[1] * (b[0] - a[0]), b[1] - a[1])
-    if x > 0:
-        return 0
-    return 1 if a[1] >= 0 else -1
 
 
 class ByAnotherRoad(unittest.TestCase):
